@@ -45,7 +45,7 @@ const (
 	FaDepth  = 7
 )
 
-// A signed type is one whose width numbers may be held against.
+// signed are the types to whose widths a number may be cut.
 type signed interface {
 	~int8 | ~int16 | ~int32 | ~int64
 }
