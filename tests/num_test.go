@@ -18,12 +18,10 @@ func numSamples() []int {
 		-1000, -33, -32, -31, -8, -7, -5, -3, -2, -1, 0, 1, 2, 3, 5, 7, 12, 30, 31, 32, 33, 255, 1000,
 		46340, 46341, 65535, 65536, 65537, impl.NumMax / 2, impl.NumMax/2 + 1, impl.NumMax - 1, impl.NumMax,
 	}
-	seed := uint32(2463534242)
+	d := newDice()
 	for range 40 {
-		seed ^= seed << 13
-		seed ^= seed >> 17
-		seed ^= seed << 5
-		list = append(list, int(int32(seed)), int(int32(seed))>>20)
+		v := int(int32(d.next()))
+		list = append(list, v, v>>20)
 	}
 	return list
 }
