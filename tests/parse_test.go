@@ -68,12 +68,19 @@ func checkRefused(t *testing.T, text string, want impl.Fault) {
 func checkWrong(t *testing.T, code int, marked ...string) {
 	t.Helper()
 	for _, text := range marked {
-		ahead, behind, ok := strings.Cut(text, "@")
-		if !ok {
-			t.Fatalf("%q has no mark", text)
-		}
-		checkRefused(t, ahead+behind, impl.Fault{Code: code, At: len(ahead)})
+		unmarked, at := cutMark(t, text)
+		checkRefused(t, unmarked, impl.Fault{Code: code, At: at})
 	}
+}
+
+// cutMark is a text without its @, and where that stood.
+func cutMark(t *testing.T, text string) (string, int) {
+	t.Helper()
+	ahead, behind, ok := strings.Cut(text, "@")
+	if !ok {
+		t.Fatalf("%q has no mark", text)
+	}
+	return ahead + behind, len(ahead)
 }
 
 // checkWrongBody takes what stands in a function likewise.
