@@ -114,9 +114,8 @@ func TestRunEveryKind(t *testing.T) {
 	checkRun(t, strings.Replace(everyDeed, "assert", "@assert", 1), []int{4}, isFault(impl.FaAssert, 33, 9, -7, 1, 15, 4))
 }
 
-// The example of the document.
-func TestRunOfTheExample(t *testing.T) {
-	const text = `array a[10];
+// example is the example of the document; its division is marked.
+const example = `array a[10];
 var sum;
 func add(x) {
 sum = sum + x;
@@ -138,12 +137,14 @@ n = 12 @/ (n - n);
 print n;
 }
 `
-	unmarked := strings.ReplaceAll(text, "@", "")
+
+func TestRunOfTheExample(t *testing.T) {
+	unmarked := strings.ReplaceAll(example, "@", "")
 	checkRun(t, unmarked, nil, isDone(23))
 	checkRun(t, unmarked, []int{0}, isDone(29, 0))
 	checkRun(t, unmarked, []int{9, 4}, isDone(29, 27))
-	checkRun(t, text, []int{10}, isFault(impl.FaZero, 25))
-	checkRun(t, text, []int{-1}, isFault(impl.FaZero, 25))
+	checkRun(t, example, []int{10}, isFault(impl.FaZero, 25))
+	checkRun(t, example, []int{-1}, isFault(impl.FaZero, 25))
 }
 
 func TestRunNotTaken(t *testing.T) {
