@@ -147,13 +147,18 @@ func TestRunOfTheExample(t *testing.T) {
 	checkRun(t, example, []int{-1}, isFault(impl.FaZero, 25))
 }
 
-func TestRunNotTaken(t *testing.T) {
-	for _, text := range []string{
+// notTaken are texts that NameTable does not take.
+func notTaken() []string {
+	return []string{
 		"", " ", "var g;", "func f() { }", "func main(x) { }", "func main() {", "func main() { x = 1; }", "func main() { } }", "func main() { print 01; }",
 		"func main() { } !", "func main() { abcdefghi = 1; }", "func main() { var i; i = null; }", "func main() { print 1; print z; }", "array a[0]; func main() { }",
 		"array a[65]; func main() { }", "func main() { } func main() { }", "func main() { var i; for i = 0 .. 3 { i = 1; } }", "func main() { var x; x = main(1); }",
 		"func main() { }" + strings.Repeat(" ", impl.SrcMaxText), "\x00", "func main() { print " + strings.Repeat("(", 10) + "1" + strings.Repeat(")", 10) + "; }",
-	} {
+	}
+}
+
+func TestRunNotTaken(t *testing.T) {
+	for _, text := range notTaken() {
 		for _, inputs := range [][]int{nil, {1, 2}, make([]int, 100), make([]int, 101)} {
 			for _, steps := range []int{-1, 0, 1, 5000, 5001} {
 				checkSteps(t, text, inputs, steps, impl.Outcome{})
