@@ -71,11 +71,15 @@ func NumWrap(v int) int {
 
 // NumDo is what an operator makes of two numbers, or a fault.
 func NumDo(op int, a int, b int) (int, int) {
-	do := numOperator(op)
-	if do == nil || !NumOk(a) || !NumOk(b) {
+	reckon := numOperator(op)
+	if reckon == nil || !NumOk(a) || !NumOk(b) {
 		return 0, 0
 	}
-	return numTry(do, a, b)
+	bound := mustFit
+	if opWraps(op) {
+		bound = NumWrap
+	}
+	return numTry(reckon, bound, a, b)
 }
 
 // NumCmp says whether a comparison holds of two numbers.
@@ -128,33 +132,38 @@ func fitsWidth[T signed](v int) bool {
 	return wrapWidth[T](v) == v
 }
 
-// numTry is the operator's face: what the operator panics with becomes the fault.
-func numTry(do func(a, b int) int, a int, b int) (num int, fault int) {
+// opWraps says whether an operator's number is wrapped where it is no ok number.
+func opWraps(op int) bool {
+	return op >= OpWrapAdd && op <= OpWrapMul
+}
+
+// numTry is the operator's face: what the operator, or the bound of its number, panics with becomes the fault.
+func numTry(reckon func(a, b int) int, bound func(v int) int, a int, b int) (num int, fault int) {
 	defer func() {
 		if f, ok := recover().(numFault); ok {
 			num, fault = 0, int(f)
 		}
 	}()
-	return do(a, b), 0
+	return bound(reckon(a, b)), 0
 }
 
-// numOperator is an operator's function, nil when there is no such operator.
+// numOperator is what an operator reckons without bound, nil when there is no such operator.
 // Sums, products and shifts of numbers of 32 bits stay within an int, so none of them is cut before it is looked at.
 func numOperator(op int) func(a, b int) int {
 	table := [...]func(a, b int) int{
-		OpAdd:     func(a, b int) int { return mustFit(a + b) },
-		OpSub:     func(a, b int) int { return mustFit(a - b) },
-		OpMul:     func(a, b int) int { return mustFit(a * b) },
-		OpDiv:     func(a, b int) int { return mustFit(a / mustDivide(b)) },
+		OpAdd:     func(a, b int) int { return a + b },
+		OpSub:     func(a, b int) int { return a - b },
+		OpMul:     func(a, b int) int { return a * b },
+		OpDiv:     func(a, b int) int { return a / mustDivide(b) },
 		OpRem:     func(a, b int) int { return a % mustDivide(b) },
 		OpAnd:     func(a, b int) int { return a & b },
 		OpOr:      func(a, b int) int { return a | b },
 		OpXor:     func(a, b int) int { return a ^ b },
-		OpShl:     func(a, b int) int { return mustFit(a << mustShift(b)) },
+		OpShl:     func(a, b int) int { return a << mustShift(b) },
 		OpShr:     func(a, b int) int { return a >> mustShift(b) },
-		OpWrapAdd: func(a, b int) int { return NumWrap(a + b) },
-		OpWrapSub: func(a, b int) int { return NumWrap(a - b) },
-		OpWrapMul: func(a, b int) int { return NumWrap(a * b) },
+		OpWrapAdd: func(a, b int) int { return a + b },
+		OpWrapSub: func(a, b int) int { return a - b },
+		OpWrapMul: func(a, b int) int { return a * b },
 	}
 	if op < 0 || op >= len(table) {
 		return nil
